@@ -1,0 +1,65 @@
+"""Records held against the game."""
+
+from gamerecord.heaps import MOST, MOST_HEAPS
+from gamerecord.heaps import first_position, is_allowed, is_over, position_after, side_to_move
+from gamerecord.record import CLOSED_BY, MOVE, NOTE, OPEN_OTHER
+from gamerecord.record import won_by
+from gamerecord.signs import bytes_of, numeral, signs_of
+
+HEAPS_NAME = "Heaps"
+
+
+def is_heaps_name(name):
+    return list(name) == bytes_of(HEAPS_NAME)
+
+
+# The heap sizes that the head Heaps tells; None if there is no such head as it must be.
+def heaps_of(record):
+    for head in record.heads:
+        if is_heaps_name(head[0]):
+            return read_heaps(head[1])
+    return None
+
+
+def read_heaps(value):
+    heaps = [numeral(piece, MOST) for piece in signs_of(value).split(" ")]
+    return heaps if len(heaps) <= MOST_HEAPS and min(heaps) >= 0 else None
+
+
+# The position at the main line's end; None if a move, in lines within lines too, isn't allowed.
+def end_position(heaps, line):
+    now = first_position(heaps)
+    before = now
+    outer = []
+    for item in line:
+        if item[0] == MOVE:
+            if not is_allowed(now, item[1]):
+                return None
+            before = now
+            now = position_after(now, item[1])
+        elif item[0] in CLOSED_BY:
+            outer.append((before, now))
+            now = before if item[0] == OPEN_OTHER else now
+        elif item[0] != NOTE:
+            before = outer[-1][0]
+            now = outer[-1][1]
+            outer.pop()
+    return now
+
+
+# Whether a main line that ends in this position may have the result.
+def is_result_right(position, result):
+    if position.ply == 0 or not is_over(position):
+        return True
+    return result == won_by(1 - side_to_move(position))
+
+
+# The position at the main line's end of a legal record; None if it isn't legal.
+def legal_end(record):
+    heaps = heaps_of(record)
+    if heaps is None:
+        return None
+    position = end_position(heaps, record.line)
+    if position is None or not is_result_right(position, record.result):
+        return None
+    return position
