@@ -4,20 +4,13 @@ from gamerecord.heaps import MOST, MOST_HEAPS
 from gamerecord.heaps import first_position, game_row, is_allowed, is_over, position_after, side_to_move
 from gamerecord.judging import HEAPS_NAME, heaps_of, end_position, is_heaps_name, legal_end
 from gamerecord.onetext import fits, one_text
-from gamerecord.reading import NoRecord, read_record
+from gamerecord.reading import read_if_record
 from gamerecord.record import EVEN, GOES_ON, MOST_HEADS, MOVE, NOTE
 from gamerecord.record import Record, can_take_mark, main_move_spots, won_by
 from gamerecord.record import with_head, with_item, with_mark, with_moves_back, with_result
+from gamerecord.replies import AGAINST_RULES, DONE, NO_PLACE, NO_TEXT, NOT_NOW, NOT_THAT_SIDE, WRONG_FORM
 from gamerecord.signs import bytes_of, is_head_name, is_head_value, is_note, signs_of
 from gamerecord.words import MOST_MARK, read_move
-
-DONE = 0
-WRONG_FORM = -1
-NO_TEXT = -2
-NOT_NOW = -3
-NO_PLACE = -4
-NOT_THAT_SIDE = -5
-AGAINST_RULES = -6
 
 NOTHING = 0
 TO_TAKE_BACK = 1
@@ -231,9 +224,8 @@ def call_print(game, numbers, rows):
 
 
 def call_load(game, numbers, rows):
-    try:
-        record = read_record(rows[0])
-    except NoRecord:
+    record = read_if_record(rows[0])
+    if record is None:
         return [NO_TEXT]
     if not fits(record):
         return [NO_PLACE]

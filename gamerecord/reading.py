@@ -49,6 +49,14 @@ def read_record(text):
     return Record(reader.heads, reader.line, result)
 
 
+# The text's record; None if it is none.
+def read_if_record(text):
+    try:
+        return read_record(text)
+    except NoRecord:
+        return None
+
+
 def token_now(reader):
     return reader.tokens[reader.spot]
 

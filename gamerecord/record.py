@@ -94,6 +94,11 @@ def main_move_spots(line):
     return spots
 
 
+# In lines within lines too. A line in brackets is one item, and counted where it begins.
+def how_many_items(line):
+    return len([item for item in line if item[0] not in (CLOSE_OTHER, CLOSE_BACK)])
+
+
 def depth(line):
     deepest = 0
     deep = 0

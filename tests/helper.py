@@ -2,8 +2,8 @@
 
 import unittest
 
+from gamerecord import texts
 from gamerecord.game import answers
-from gamerecord.reading import NoRecord, read_record
 
 MOST = 1000000000
 FAR = 10 ** 18
@@ -134,13 +134,53 @@ def text_of_length(length, heaps="9 9", items="", result="*"):
     return text
 
 
+def deep(count, signs):
+    """A main line with lines so deep in it, each with a move of its own."""
+    return "a1 " + "".join(signs[level % len(signs)][0] + "a1 " for level in range(count)) + "".join(
+        signs[level % len(signs)][1] for level in reversed(range(count)))
+
+
+class Untouched(list):
+    """A list that can't be changed, not for a while either."""
+
+    def refuse(self, *given):
+        raise AssertionError("what is handed in was changed")
+
+    __setitem__ = __delitem__ = __iadd__ = __imul__ = refuse
+    append = clear = extend = insert = pop = remove = reverse = sort = refuse
+
+
+def of_text(function, *given):
+    """What a function of gamerecord.texts gives back, with whole numbers and a text handed in; asked twice."""
+    handed = [part if isinstance(part, int) else Untouched(as_bytes(part)) for part in given]
+    answer = function(*handed)
+    assert type(answer) is list and all(type(number) is int for number in answer), answer
+    kept = list(answer)
+    answer.clear()
+    assert function(*handed) == kept
+    return kept
+
+
+def read(text):
+    return of_text(texts.read, text)
+
+
+def form(text):
+    return of_text(texts.form, text)
+
+
+def form_text(text):
+    """The one text that form gives; it must give one."""
+    answer = form(text)
+    assert answer[0] == 0, answer
+    return as_text(answer[1:])
+
+
 def place_of(text):
     """The place of what is wrong; 0 if the text is a record."""
-    try:
-        read_record(as_bytes(text))
-    except NoRecord as wrong:
-        return wrong.place
-    return 0
+    answer = read(text)
+    assert len(answer) == (6 if answer[0] == 1 else 2), answer
+    return 0 if answer[0] == 1 else answer[1]
 
 
 class CallCase(unittest.TestCase):

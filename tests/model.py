@@ -149,6 +149,32 @@ def fits(record):
     return len(one_text(record)) <= 8192 and deepness(record["items"]) <= 40
 
 
+def all_items(items):
+    for item in items:
+        yield item
+        if item[0] in "(<":
+            yield from all_items(item[1])
+
+
+def read(text):
+    record = parse(text)
+    if isinstance(record, int):
+        return [0, record]
+    items = record["items"]
+    moves = [item for item in items if item[0] == "move"]
+    return [1, len(record["heads"]), record["result"], len(moves), len(list(all_items(items))), deepness(items)]
+
+
+def shown(record):
+    text = one_text(record)
+    return [-4] if len(text) > 8192 else [0] + [ord(sign) for sign in text]
+
+
+def form(text):
+    record = parse(text)
+    return [-2] if isinstance(record, int) else shown(record)
+
+
 def play(position, text):
     """The position behind the move; None if it isn't allowed. A position is (ply, passed, heaps)."""
     ply, passed, heaps = position

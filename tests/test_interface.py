@@ -1,15 +1,24 @@
-"""answers(calls): the list handed in and the list given back."""
+"""What is handed in and what is given back: answers(calls), and the functions of a text alone."""
 
+import inspect
 import unittest
 
+from gamerecord import texts
 from gamerecord.game import answers
-from helper import as_bytes, back, begin, even, head, load, mark, move, moves, no, note, printed, resign, state
+from helper import Untouched, as_bytes, back, begin, even, head, load, mark, move, moves, no, note, printed, resign, state
 from helper import text_of_length, withdraw, yes
 
 ALL_CALLS = [
     begin(9, 0), head("Event", "x"), *moves("a1", "--"), note("n"), mark(3), move(0, "a4b"), mark(3), back(0, 2), yes(1),
     even(0), no(1), even(1), withdraw(1), load('[Heaps "9"] a1! (a2 <a3>) *'), state(), printed(), resign(0), move(0, "x"),
 ]
+
+
+# Each function of a text alone, with what stands before the text.
+OF_TEXTS = [(texts.read, []), (texts.form, [])]
+
+# A record, one that isn't legal, one whose one text is too long, and texts that are none.
+TEXTS = ['[Heaps "9"] a1! (a2 <a3>) {n} a4 $7 *', "c1 $1 *", "a1 " * 2500 + "*", "x", "", "*" * 10000]
 
 
 def joined(calls):
@@ -38,8 +47,9 @@ class Interface(unittest.TestCase):
     def test_the_list_handed_in_is_unchanged(self):
         calls = joined(ALL_CALLS)
         before = list(calls)
-        answers(calls)
+        given = answers(calls)
         self.assertEqual(calls, before)
+        self.assertEqual(answers(Untouched(calls)), given)
 
     def test_the_same_list_again_answers_the_same(self):
         calls = joined(ALL_CALLS)
@@ -58,6 +68,45 @@ class Interface(unittest.TestCase):
     def test_long_lists(self):
         calls = [load(text_of_length(8192))] + [note("x" * 60)] * 98
         self.assertEqual(answers(joined(calls + [state()]))[-10:], [0, 0, 0, 0, 0, 0, 0, 0, 9, 9])
+
+
+class Texts(unittest.TestCase):
+    def test_names_of_what_is_handed_in(self):
+        for function, before in OF_TEXTS:
+            names = list(inspect.signature(function).parameters)
+            self.assertEqual(names, ["k"] * len(before) + ["text"])
+
+    def test_whole_numbers_in_a_list(self):
+        for function, before in OF_TEXTS:
+            for text in TEXTS:
+                given = function(*before, as_bytes(text))
+                self.assertIs(type(given), list)
+                self.assertEqual({type(number) for number in given}, {int})
+
+    def test_the_text_handed_in_is_unchanged(self):
+        for function, before in OF_TEXTS:
+            for text in TEXTS:
+                handed = as_bytes(text)
+                given = function(*before, handed)
+                self.assertEqual(handed, as_bytes(text))
+                self.assertEqual(function(*before, Untouched(handed)), given)
+
+    def test_the_same_text_again_answers_the_same(self):
+        for function, before in OF_TEXTS:
+            first = [function(*before, as_bytes(text)) for text in TEXTS]
+            kept = [list(given) for given in first]
+            answers(joined(ALL_CALLS))
+            for given in first:
+                given.clear()
+            self.assertEqual([function(*before, as_bytes(text)) for text in reversed(TEXTS)], kept[::-1])
+
+    def test_no_game_is_needed_or_changed(self):
+        calls = joined(ALL_CALLS)
+        before = answers(calls)
+        for function, given in OF_TEXTS:
+            function(*given, as_bytes(TEXTS[0]))
+        self.assertEqual(answers(calls), before)
+        self.assertEqual(answers([11]), [1, -3])
 
 
 if __name__ == "__main__":

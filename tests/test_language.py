@@ -55,6 +55,8 @@ def local_names(tree):
             yield node.arg
         elif isinstance(node, ast.Name) and isinstance(node.ctx, ast.Store):
             yield node.id
+        elif isinstance(node, ast.ExceptHandler) and node.name:
+            yield node.name
 
 
 class Language(unittest.TestCase):

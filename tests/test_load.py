@@ -4,8 +4,8 @@ import unittest
 
 from gamerecord.judging import legal_end
 from gamerecord.reading import read_record
-from helper import MOST, CallCase, as_bytes, back, begin, even, last, load, move, note, printed, resign, run, state
-from helper import text_after, text_of_length
+from helper import MOST, CallCase, as_bytes, back, begin, deep, even, last, load, move, note, printed, resign, run
+from helper import state, text_after, text_of_length
 
 H = '[Heaps "9 0"]'
 
@@ -58,12 +58,6 @@ WRONG = [
 ]
 
 BAD_BYTES = [0, 9, 11, 13, 31, 127, 128, 160, 200, 255]
-
-
-def deep(count, signs):
-    """A main line with lines so deep in it, each with a move of its own."""
-    return "a1 " + "".join(signs[level % len(signs)][0] + "a1 " for level in range(count)) + "".join(
-        signs[level % len(signs)][1] for level in reversed(range(count)))
 
 
 class Records(CallCase):

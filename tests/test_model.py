@@ -110,10 +110,10 @@ class Model(unittest.TestCase):
                 expected.append(getattr(game, call[0])(*call[1]))
         self.assertEqual(helper.run(*calls), expected)
 
-    def check_place(self, text):
+    def check_text(self, text):
         with self.subTest(text=text):
-            expected = model.parse(text)
-            self.assertEqual(helper.place_of(text), expected if isinstance(expected, int) else 0)
+            self.assertEqual(helper.read(text), model.read(text))
+            self.assertEqual(helper.form(text), model.form(text))
 
     def test_sessions(self):
         for seed in range(600):
@@ -136,7 +136,15 @@ class Model(unittest.TestCase):
     def test_texts(self):
         for seed in range(3000):
             text = random_text(random.Random(seed))
-            self.check_place(text)
+            self.check_text(text)
+
+    def test_texts_that_are_nearly_full(self):
+        for seed in range(60):
+            chance = random.Random(seed)
+            items = chance.choice(["1. a1", "1. a1 a1", "1. a1 < 1... a1 >", "1. a1 ( 1. a2 ) $1", "1. a10"])
+            text = helper.text_of_length(chance.randint(8185, 8200), items=items)
+            # Without these it is shorter than its one text.
+            self.check_text(text.replace("1. ", "", chance.randint(0, 2))[:8192 + chance.randint(-1, 1)])
 
     def test_texts_of_signs(self):
         tokens = ["(", ")", "<", ">", "{", "}", "{x}", "[A \"\"]", "[B \"\"]", "]", "*", "1-0", "$1", "$9", "1.", "1...", "2.",
@@ -145,7 +153,7 @@ class Model(unittest.TestCase):
             chance = random.Random(seed)
             pieces = [chance.choice(tokens) for piece in range(chance.randint(0, 12))]
             text = chance.choice(["", " "]).join(pieces)
-            self.check_place(text)
+            self.check_text(text)
 
 
 if __name__ == "__main__":
