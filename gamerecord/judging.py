@@ -26,17 +26,26 @@ def read_heaps(value):
     return heaps if len(heaps) <= MOST_HEAPS and min(heaps) >= 0 else None
 
 
-# The position at the main line's end; None if a move, in lines within lines too, isn't allowed.
-def end_position(heaps, line):
+# Where a record's moves lead. The positions stand at the beginning and behind each move, in the order in which
+# the moves are written, up to the first one that isn't allowed; if there is one, the main line's end is None.
+class Trail:
+    def __init__(self, first):
+        self.positions = [first]
+        self.end = None
+
+
+def follow(heaps, line):
     now = first_position(heaps)
+    trail = Trail(now)
     before = now
     outer = []
     for item in line:
         if item[0] == MOVE:
             if not is_allowed(now, item[1]):
-                return None
+                return trail
             before = now
             now = position_after(now, item[1])
+            trail.positions.append(now)
         elif item[0] in CLOSED_BY:
             outer.append((before, now))
             now = before if item[0] == OPEN_OTHER else now
@@ -44,7 +53,8 @@ def end_position(heaps, line):
             before = outer[-1][0]
             now = outer[-1][1]
             outer.pop()
-    return now
+    trail.end = now
+    return trail
 
 
 # Whether a main line that ends in this position may have the result.
@@ -59,7 +69,7 @@ def legal_end(record):
     heaps = heaps_of(record)
     if heaps is None:
         return None
-    position = end_position(heaps, record.line)
+    position = follow(heaps, record.line).end
     if position is None or not is_result_right(position, record.result):
         return None
     return position

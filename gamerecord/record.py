@@ -75,6 +75,12 @@ def with_moves_back(record, k):
     return Record(record.heads, line, record.result)
 
 
+# Without marks, notes and lines in brackets.
+def with_main_moves_alone(record):
+    line = [(MOVE, record.line[spot][1], ()) for spot in main_move_spots(record.line)]
+    return Record(record.heads, line, record.result)
+
+
 def can_take_mark(line):
     return len(line) > 0 and line[-1][0] == MOVE and len(line[-1][2]) < MOST_MARKS
 

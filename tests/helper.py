@@ -102,9 +102,7 @@ def last(*calls):
 
 def text_after(*calls):
     """What print gives behind these calls."""
-    answer = last(*calls, printed())
-    assert answer[0] == 0, answer
-    return as_text(answer[1:])
+    return text_given(last(*calls, printed()))
 
 
 def moves(*texts):
@@ -169,9 +167,16 @@ def form(text):
     return of_text(texts.form, text)
 
 
-def form_text(text):
-    """The one text that form gives; it must give one."""
-    answer = form(text)
+def judge(text):
+    return of_text(texts.judge, text)
+
+
+def main(text):
+    return of_text(texts.main, text)
+
+
+def text_given(answer):
+    """The text of an answer that must be 0 and its bytes."""
     assert answer[0] == 0, answer
     return as_text(answer[1:])
 

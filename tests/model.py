@@ -234,6 +234,37 @@ def game_row(record):
     return [ply, ply % 2, int(0 in passed), int(1 in passed), *heaps]
 
 
+def trail(position, items):
+    """Each move of the items in the order in which they're written, as the position behind it; None if not allowed."""
+    before = behind = position
+    for item in items:
+        if item[0] == "move":
+            before, behind = behind, behind and play(behind, item[1])
+            yield behind
+        elif item[0] in "(<":
+            yield from trail(before if item[0] == "(" else behind, item[1])
+
+
+def judge(text):
+    record = parse(text)
+    if isinstance(record, int):
+        return [-2]
+    if start(record) is None:
+        return [0, 1]
+    behind = list(trail(start(record), record["items"]))
+    if None in behind:
+        return [0, 2, 1 + behind.index(None)]
+    return [0, 3] if end(record) is None else [0, 0] + game_row(record)
+
+
+def main(text):
+    record = parse(text)
+    if isinstance(record, int):
+        return [-2]
+    moves = [["move", item[1], []] for item in record["items"] if item[0] == "move"]
+    return shown({**record, "items": moves})
+
+
 class Game:
     """One method a call, with texts as texts. Each tries all refusals and takes the one nearest to 0."""
 

@@ -2,7 +2,7 @@
 
 import unittest
 
-from helper import as_bytes, deep, form, form_text, load, read, text_after, text_of_length
+from helper import as_bytes, deep, form, load, read, text_after, text_given, text_of_length
 from test_load import H, RIGHT, WRONG
 
 # Texts and their one texts.
@@ -26,6 +26,10 @@ FORMS = [
     ("a1(<a2{x}>a3(a4<a5>))*", "1. a1 ( < 1. a2 {x} > 1. a3 ( 1. a4 < 1... a5 > ) ) *\n"),
     ("h1000000000a *", "1. h1000000000a *\n"),
 ]
+
+
+def form_text(text):
+    return text_given(form(text))
 
 
 class Form(unittest.TestCase):

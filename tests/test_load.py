@@ -57,6 +57,21 @@ WRONG = [
     ("a1(a2))*", 7), ("a1 (a2 <a3) > *", 11), ("a1 (>) *", 5),
 ]
 
+RIGHT_HEAPS = {"1": [1], "0 1": [0, 1], "1 2 3 4 5 6 7 8": [1, 2, 3, 4, 5, 6, 7, 8], "1000000000": [MOST]}
+WRONG_HEAPS = ["", " ", "1 ", " 1", "1  2", "01", "1 02", "00", "1000000001", "1 2 3 4 5 6 7 8 9", "a", "-1", "1,2", "1.",
+               "+1", "1 x", "9" * 100, "1 0 00", "(1)", "Heaps", "$1"]
+NO_HEAPS = ["*", "{}*", "a1 *", '[heaps "1"]*', '[HEAPS "1"]*', '[Heap "1"]*', '[Heapss "1"]*']
+
+# Lines for heaps of 9 and 0, each with the number of the first move that isn't allowed.
+NOT_ALLOWED = [
+    ("a10 *", 1), ("b1 *", 1), ("c1 *", 1), ("h1 *", 1), ("a9b *", 1), ("a1a *", 1), ("a1c *", 1), ("c1a *", 1),
+    ("a1b a1b *", 2), ("-- -- -- *", 3), ("a1 -- a1 -- *", 4), ("a9 -- 1-0", 2), ("a9 a1 1-0", 2), ("a5 a5 *", 2),
+    ("a1 (a10) *", 2), ("a5 <a5> *", 2), ("<a10> *", 1), ("a1 (a9 --) *", 3), ("a1 <a8 --> *", 3), ("a1 (a2 (a10)) *", 3),
+    ("a1 <-- <a9>> *", 3), ("a1 (a5 a5) *", 3), ("a1 (b1) *", 2), ("-- (-- -- a1 <--> --) *", 5), ("-- -- (-- --) *", 4),
+    ("a1 <a1b <a1b>> *", 3), ("a1 (a1b b2) *", 3), ("a9 <--> 1-0", 2), ("a9 <a1> 1-0", 2), ("a1 (a2 a3) {n} a1 a9 *", 5),
+    ("a1 (a2) <a3> a9 *", 4), ("<a1> <a2 (a3)> a10 *", 4), ("a1 (a2 <a3>) (a4 {x} <a6>) a1 *", 5),
+]
+
 BAD_BYTES = [0, 9, 11, 13, 31, 127, 128, 160, 200, 255]
 
 
@@ -161,18 +176,15 @@ class Fitting(CallCase):
 
 class Legal(CallCase):
     def test_heaps(self):
-        right = {"1": [1], "0 1": [0, 1], "1 2 3 4 5 6 7 8": [1, 2, 3, 4, 5, 6, 7, 8], "1000000000": [MOST]}
-        for value, heaps in right.items():
+        for value, heaps in RIGHT_HEAPS.items():
             self.check([0, 0, 0, 0, 0] + heaps, load(f'[Heaps "{value}"]*'))
-        wrong = ["", " ", "1 ", " 1", "1  2", "01", "1 02", "00", "1000000001", "1 2 3 4 5 6 7 8 9", "a", "-1", "1,2", "1.",
-                 "+1", "1 x", "9" * 100, "1 0 00", "(1)", "Heaps", "$1"]
-        for value in wrong:
+        for value in WRONG_HEAPS:
             with self.subTest(value=value):
                 self.check([-6], load(f'[Heaps "{value}"]*'))
                 self.check_refused(-6, [begin(3), move(0, "a1"), even(1)], load(f'[Heaps "{value}"]*'))
 
     def test_no_head_heaps(self):
-        for text in ("*", "{}*", "a1 *", '[heaps "1"]*', '[HEAPS "1"]*', '[Heap "1"]*', '[Heapss "1"]*'):
+        for text in NO_HEAPS:
             self.check([-6], load(text))
 
     def test_heaps_need_not_be_the_first_head(self):
@@ -191,11 +203,7 @@ class Legal(CallCase):
             self.assertIsNotNone(legal_end(read_record(as_bytes('[Heaps "0"]' + result))))
 
     def test_moves_that_are_not_allowed(self):
-        wrong = ["a10 *", "b1 *", "c1 *", "h1 *", "a9b *", "a1a *", "a1c *", "c1a *", "a1b a1b *", "-- -- -- *", "a1 -- a1 -- *",
-                 "a9 -- 1-0", "a9 a1 1-0", "a5 a5 *", "a1 (a10) *", "a5 <a5> *", "<a10> *", "a1 (a9 --) *", "a1 <a8 --> *",
-                 "a1 (a2 (a10)) *", "a1 <-- <a9>> *", "a1 (a5 a5) *", "a1 (b1) *", "-- (-- -- a1 <--> --) *",
-                 "-- -- (-- --) *", "a1 <a1b <a1b>> *", "a1 (a1b b2) *", "a9 <--> 1-0", "a9 <a1> 1-0"]
-        for text in wrong:
+        for text, number in NOT_ALLOWED:
             with self.subTest(text=text):
                 self.check([-6], load(H + text))
                 self.check_refused(-6, [begin(3), move(0, "a1"), even(1)], load(H + text))

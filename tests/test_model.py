@@ -114,6 +114,8 @@ class Model(unittest.TestCase):
         with self.subTest(text=text):
             self.assertEqual(helper.read(text), model.read(text))
             self.assertEqual(helper.form(text), model.form(text))
+            self.assertEqual(helper.judge(text), model.judge(text))
+            self.assertEqual(helper.main(text), model.main(text))
 
     def test_sessions(self):
         for seed in range(600):
