@@ -2,7 +2,7 @@
 
 from gamerecord.heaps import MOST, MOST_HEAPS
 from gamerecord.heaps import first_position, game_row, is_allowed, is_over, position_after, side_to_move
-from gamerecord.judging import HEAPS_NAME, follow, heaps_of, is_heaps_name, legal_end
+from gamerecord.judging import HEAPS_NAME, heaps_of, is_heaps_name, legal_end, trail_of
 from gamerecord.onetext import fits, one_text
 from gamerecord.reading import read_if_record
 from gamerecord.record import EVEN, GOES_ON, MOST_HEADS, MOVE, NOTE
@@ -166,7 +166,7 @@ def call_yes(game, numbers, rows):
         return [NO_PLACE]
     if numbers[0] == game.asker:
         return [NOT_THAT_SIDE]
-    position = follow(heaps_of(record), record.line).end
+    position = trail_of(record).end
     set_game(game, record, position)
     return [DONE] + game_row(position)
 

@@ -57,6 +57,12 @@ def follow(heaps, line):
     return trail
 
 
+# None if there's no head Heaps as it must be.
+def trail_of(record):
+    heaps = heaps_of(record)
+    return None if heaps is None else follow(heaps, record.line)
+
+
 # Whether a main line that ends in this position may have the result.
 def is_result_right(position, result):
     if position.ply == 0 or not is_over(position):
@@ -66,10 +72,13 @@ def is_result_right(position, result):
 
 # The position at the main line's end of a legal record; None if it isn't legal.
 def legal_end(record):
-    heaps = heaps_of(record)
-    if heaps is None:
+    trail = trail_of(record)
+    if trail is None or trail.end is None or not is_result_right(trail.end, record.result):
         return None
-    position = follow(heaps, record.line).end
-    if position is None or not is_result_right(position, record.result):
-        return None
-    return position
+    return trail.end
+
+
+# All positions of the record's trail; None if there's no head Heaps as it must be, or a move isn't allowed.
+def positions_of(record):
+    trail = trail_of(record)
+    return None if trail is None or trail.end is None else trail.positions

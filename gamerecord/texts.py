@@ -1,12 +1,12 @@
 """What is answered of a text alone, without a game."""
 
-from gamerecord.heaps import game_row
-from gamerecord.judging import follow, heaps_of, is_result_right
+from gamerecord.heaps import MOST, game_row
+from gamerecord.judging import is_result_right, positions_of, trail_of
 from gamerecord.onetext import one_text
 from gamerecord.reading import NoRecord, read_if_record, read_record
 from gamerecord.record import MOST_BYTES
 from gamerecord.record import depth, how_many_items, main_move_spots, with_main_moves_alone
-from gamerecord.replies import DONE, NO_PLACE, NO_TEXT
+from gamerecord.replies import AGAINST_RULES, DONE, NO_PLACE, NO_TEXT, NOT_NOW, WRONG_FORM
 
 # What read answers first.
 NO_RECORD = 0
@@ -48,10 +48,9 @@ def judge(text):
 
 
 def judged(record):
-    heaps = heaps_of(record)
-    if heaps is None:
+    trail = trail_of(record)
+    if trail is None:
         return [NO_HEAPS]
-    trail = follow(heaps, record.line)
     if trail.end is None:
         # One position more than moves that are allowed: so many is the number of the first that isn't.
         return [MOVE_NOT_ALLOWED, len(trail.positions)]
@@ -65,3 +64,35 @@ def main(text):
     if record is None:
         return [NO_TEXT]
     return printed(with_main_moves_alone(record))
+
+
+def walk(k, text):
+    if not 0 <= k <= MOST:
+        return [WRONG_FORM]
+    record = read_if_record(text)
+    if record is None:
+        return [NO_TEXT]
+    positions = positions_of(record)
+    if positions is None:
+        return [AGAINST_RULES]
+    if k >= len(positions):
+        return [NOT_NOW]
+    return [DONE] + game_row(positions[k])
+
+
+def places(text):
+    record = read_if_record(text)
+    if record is None:
+        return [NO_TEXT]
+    positions = positions_of(record)
+    if positions is None:
+        return [AGAINST_RULES]
+    return [DONE, how_many_different(positions), len(positions) - 1]
+
+
+def how_many_different(positions):
+    seen = {}
+    for position in positions:
+        # A game row without its ply, which alone makes no two positions different.
+        seen[tuple(game_row(position)[1:])] = True
+    return len(seen)

@@ -175,6 +175,14 @@ def main(text):
     return of_text(texts.main, text)
 
 
+def walk(k, text):
+    return of_text(texts.walk, k, text)
+
+
+def places(text):
+    return of_text(texts.places, text)
+
+
 def text_given(answer):
     """The text of an answer that must be 0 and its bytes."""
     assert answer[0] == 0, answer

@@ -229,9 +229,13 @@ def end(record):
     return position
 
 
-def game_row(record):
-    ply, passed, heaps = end(record)
+def row_of(position):
+    ply, passed, heaps = position
     return [ply, ply % 2, int(0 in passed), int(1 in passed), *heaps]
+
+
+def game_row(record):
+    return row_of(end(record))
 
 
 def trail(position, items):
@@ -263,6 +267,31 @@ def main(text):
         return [-2]
     moves = [["move", item[1], []] for item in record["items"] if item[0] == "move"]
     return shown({**record, "items": moves})
+
+
+def positions(record):
+    """At the beginning and behind each move; None among them where a move isn't allowed, or there are no heaps."""
+    return [start(record), *(trail(start(record), record["items"]) if start(record) else [])]
+
+
+def walk(k, text):
+    record = parse(text)
+    refusals = [-1] if not 0 <= k <= MOST else []
+    if isinstance(record, int):
+        return [max(refusals + [-2])]
+    found = positions(record)
+    refusals += [-6] if None in found else [-3] if k >= len(found) else []
+    return [max(refusals)] if refusals else [0] + row_of(found[k])
+
+
+def places(text):
+    record = parse(text)
+    if isinstance(record, int):
+        return [-2]
+    found = positions(record)
+    if None in found:
+        return [-6]
+    return [0, len({(ply % 2, passed, *heaps) for ply, passed, heaps in found}), len(found) - 1]
 
 
 class Game:

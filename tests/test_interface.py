@@ -15,7 +15,8 @@ ALL_CALLS = [
 
 
 # Each function of a text alone, with what stands before the text.
-OF_TEXTS = [(texts.read, []), (texts.form, []), (texts.judge, []), (texts.main, [])]
+OF_TEXTS = [(texts.read, []), (texts.form, []), (texts.judge, []), (texts.main, []),
+            (texts.walk, [0]), (texts.walk, [2]), (texts.walk, [-1]), (texts.places, [])]
 
 # A record, one that isn't legal, one whose one text is too long, and texts that are none.
 TEXTS = ['[Heaps "9"] a1! (a2 <a3>) {n} a4 $7 *', "c1 $1 *", "a1 " * 2500 + "*", "x", "", "*" * 10000]

@@ -116,6 +116,9 @@ class Model(unittest.TestCase):
             self.assertEqual(helper.form(text), model.form(text))
             self.assertEqual(helper.judge(text), model.judge(text))
             self.assertEqual(helper.main(text), model.main(text))
+            self.assertEqual(helper.places(text), model.places(text))
+            for k in (-1, 0, 1, 2, 4, 9, model.MOST):
+                self.assertEqual(helper.walk(k, text), model.walk(k, text), k)
 
     def test_sessions(self):
         for seed in range(600):
